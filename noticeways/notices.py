@@ -1,6 +1,5 @@
 """Which values are notices, houses and formulas."""
 
-from noticeways.errors import InvalidFormula, InvalidNotice
 from noticeways.rows import JOINTS, is_row
 
 MOST_SIGNS = 16
@@ -30,7 +29,7 @@ def is_house(value):
     """Whether a value is a house."""
     if not isinstance(value, tuple) or len(value) != SORTS:
         return False
-    return all([_is_number(many, 0, MOST_PEOPLE) for many in value])
+    return all([is_number(many, 0, MOST_PEOPLE) for many in value])
 
 
 def is_formula(value):
@@ -38,19 +37,8 @@ def is_formula(value):
     return _is_nested(value, MOST_DEPTH)
 
 
-def check_notice(value):
-    """Raise InvalidNotice for what is no notice."""
-    if not is_notice(value):
-        raise InvalidNotice("this is no notice")
-
-
-def check_formula(value):
-    """Raise InvalidFormula for what is no formula."""
-    if not is_formula(value):
-        raise InvalidFormula("this is no formula")
-
-
-def _is_number(value, least, most):
+def is_number(value, least, most):
+    """Whether a value is an integer from the least to the most one."""
     # A truth is an int for Python, but no integer for a notice.
     if not isinstance(value, int) or isinstance(value, bool):
         return False
@@ -70,7 +58,7 @@ def _is_triple(value, mark_words, count_words):
     word, first, second = value
     if word in mark_words:
         return (first, second) in MARKS
-    return word in count_words and _is_number(first, 1, MOST_TOLD) and second in COUNTED
+    return word in count_words and is_number(first, 1, MOST_TOLD) and second in COUNTED
 
 
 def _is_nested(value, depth):

@@ -1,7 +1,7 @@
 """All readings of a notice."""
 
+from noticeways.checks import check_formula, check_notice
 from noticeways.errors import TooMany
-from noticeways.notices import check_formula, check_notice
 from noticeways.rows import is_bracketed, joint_places
 
 MOST_READINGS = 300

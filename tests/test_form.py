@@ -12,7 +12,7 @@ class FormTest(unittest.TestCase):
 
     def test_files_are_there(self):
         names = [one.name for one in FILES]
-        for name in ("__init__.py", "errors.py", "notices.py", "readings.py"):
+        for name in ("__init__.py", "errors.py", "notices.py", "readings.py", "truths.py", "comparing.py", "cases.py"):
             self.assertIn(name, names)
 
     def test_sizes(self):

@@ -1,6 +1,5 @@
 """Tests of promises 7 and 11, and of 2 and 3 as far as they speak of these: all readings of a notice."""
 
-import copy
 import unittest
 
 from noticeways import readings as module
@@ -9,17 +8,9 @@ from noticeways.notices import is_formula
 from noticeways.readings import is_reading, readings
 from tests import reckoning
 from tests.reckoning import A, B, C, D, FEW_MORE, JUST_300, TWO_MORE, VERY_MANY
+from tests.wrong import WRONG_FORMULAS, WRONG_NOTICES, ErrorsCase
 
 SIGNS = (("allnot", "a", "b"), ("all", "b", "a"), "and", "unless", "onlyif", "not", "(", ")")
-WRONG_NOTICES = [
-    None, True, 0, 10 ** 39, "", "all-a-b", (), [], list(A), A + A, ("not",), ("not",) * 16 + A,
-    A + ("or",) + A + ("or",) + A + ("or",) + A + ("or",) + A, (("has", 4, "a"),), (["all", "a", "b"],),
-    ("all", "a", "b"), (("least", 1, "a"),), ("(",) + A, (None,), ((),),
-]
-WRONG_FORMULAS = [
-    None, False, 1, "", "not", (), [], list(A[0]), A, C[0], ("has", 1, "a"), ("not",), ("and", A[0]),
-    ("least", 0, "a"), ("least", True, "a"), ("no", "a", "a"), ("not", ["no", "a", "b"]), ("or", A[0], A[0], A[0]),
-]
 
 
 class DocumentTest(unittest.TestCase):
@@ -221,14 +212,7 @@ class IsReadingTest(unittest.TestCase):
             is_reading(("not",) + notice, ("not", formula))
 
 
-class ErrorsTest(unittest.TestCase):
-
-    def raises(self, error, function, *arguments):
-        kept = copy.deepcopy(arguments)
-        with self.assertRaises(ValueError) as caught:
-            function(*arguments)
-        self.assertIs(type(caught.exception), error, arguments)
-        self.assertEqual(arguments, kept)
+class ErrorsTest(ErrorsCase):
 
     def test_wrong_notices(self):
         for wrong in WRONG_NOTICES:

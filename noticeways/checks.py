@@ -1,0 +1,48 @@
+"""The errors that wrong arguments raise, one function for each kind of argument."""
+
+from noticeways.errors import InvalidCases, InvalidFormula, InvalidHouse, InvalidNotice, InvalidNumber, InvalidTruth
+from noticeways.notices import MOST_PEOPLE, is_formula, is_house, is_notice, is_number
+
+MOST_DECIDED = 6
+
+
+def check_notice(value):
+    """Raise InvalidNotice for what is no notice."""
+    if not is_notice(value):
+        raise InvalidNotice("this is no notice")
+
+
+def check_formula(value):
+    """Raise InvalidFormula for what is no formula."""
+    if not is_formula(value):
+        raise InvalidFormula("this is no formula")
+
+
+def check_house(value):
+    """Raise InvalidHouse for what is no house."""
+    if not is_house(value):
+        raise InvalidHouse("this is no house")
+
+
+def check_truth(value):
+    """Raise InvalidTruth for what is no truth."""
+    if not isinstance(value, bool):
+        raise InvalidTruth("this is no truth")
+
+
+def check_people(value):
+    """Raise InvalidNumber for what is no number of people."""
+    if not is_number(value, 0, MOST_PEOPLE):
+        raise InvalidNumber("this is no number of people")
+
+
+def check_cases(value):
+    """Raise InvalidCases for what is not what was decided."""
+    if not isinstance(value, tuple) or len(value) > MOST_DECIDED or not all([_is_case(pair) for pair in value]):
+        raise InvalidCases("this is not what was decided")
+
+
+def _is_case(value):
+    if not isinstance(value, tuple) or len(value) != 2:
+        return False
+    return is_house(value[0]) and isinstance(value[1], bool)
