@@ -1,15 +1,15 @@
 """Which readings go with houses that were decided, and what these say of another one."""
 
 from noticeways.checks import check_cases, check_house, check_notice
-from noticeways.meanings import meanings
-from noticeways.readings import readings
+from noticeways.kept import kept_numbers, kept_readings
+from noticeways.meanings import holds_at, place_of, small_houses
 
 
 def left(notice, decided):
     """The ascending list of the numbers of all readings that go with what was decided."""
     check_notice(notice)
     check_cases(decided)
-    return _numbers_left(readings(notice), decided)
+    return kept_numbers(notice, decided)
 
 
 def told(notice, decided, house):
@@ -17,15 +17,8 @@ def told(notice, decided, house):
     check_notice(notice)
     check_cases(decided)
     check_house(house)
-    formulas = readings(notice)
-    kept = [formulas[number] for number in _numbers_left(formulas, decided)]
-    truths = [meaning == 1 for meaning in meanings(kept, [house])]
+    at = place_of(house, small_houses())
+    truths = [holds_at(meaning, at) for meaning in kept_readings(notice, decided)]
     if True in truths and False in truths:
         return None
     return truths[0] if truths else None
-
-
-def _numbers_left(formulas, decided):
-    houses = [pair[0] for pair in decided]
-    wanted = sum([1 << at for at, pair in enumerate(decided) if pair[1]])
-    return [number for number, meaning in enumerate(meanings(formulas, houses)) if meaning == wanted]

@@ -1,9 +1,12 @@
 """The errors that wrong arguments raise, one function for each kind of argument."""
 
-from noticeways.errors import InvalidCases, InvalidFormula, InvalidHouse, InvalidNotice, InvalidNumber, InvalidTruth
+from noticeways.errors import (
+    InvalidCases, InvalidFormula, InvalidHouse, InvalidNotice, InvalidNumber, InvalidPlan, InvalidTruth,
+)
 from noticeways.notices import MOST_PEOPLE, is_formula, is_house, is_notice, is_number
 
 MOST_DECIDED = 6
+MOST_QUESTIONS = 7
 
 
 def check_notice(value):
@@ -42,7 +45,22 @@ def check_cases(value):
         raise InvalidCases("this is not what was decided")
 
 
+def check_plan(value, many):
+    """Raise InvalidPlan for what is no plan for a notice with so many readings."""
+    if not _is_plan(value, many, MOST_QUESTIONS):
+        raise InvalidPlan("this is no plan")
+
+
 def _is_case(value):
     if not isinstance(value, tuple) or len(value) != 2:
         return False
     return is_house(value[0]) and isinstance(value[1], bool)
+
+
+def _is_plan(value, many, questions):
+    # The questions are how many may still be asked one behind another.
+    if not isinstance(value, tuple):
+        return is_number(value, 0, many - 1)
+    if len(value) != 4 or value[0] != "ask" or not is_house(value[1]) or questions == 0:
+        return False
+    return _is_plan(value[2], many, questions - 1) and _is_plan(value[3], many, questions - 1)

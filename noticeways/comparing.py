@@ -1,8 +1,8 @@
 """How the meanings of two formulas, or of all readings of a notice, stand to each other."""
 
-from noticeways.checks import check_formula
+from noticeways.checks import check_formula, check_notice
+from noticeways.kept import kept_readings
 from noticeways.meanings import first_of_all, meanings, small_houses
-from noticeways.readings import readings
 
 
 def relation(one, other):
@@ -29,13 +29,12 @@ def parting(one, other):
 
 def groups(notice):
     """The ascending list of ascending tuples of the numbers of all readings that are the same."""
-    numbers = {}
-    for number, meaning in enumerate(meanings(readings(notice), small_houses())):
-        numbers.setdefault(meaning, []).append(number)
+    check_notice(notice)
     # A dict keeps its order: each group came in with its least number.
-    return [tuple(group) for group in numbers.values()]
+    return [tuple(numbers) for numbers in kept_readings(notice, ()).values()]
 
 
 def harmless(notice):
     """Whether all readings of a notice are the same."""
-    return len(groups(notice)) == 1
+    check_notice(notice)
+    return len(kept_readings(notice, ())) == 1

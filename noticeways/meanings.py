@@ -35,9 +35,20 @@ def everywhere(houses):
     return (1 << len(houses)) - 1
 
 
+def holds_at(meaning, at):
+    """Whether a meaning has the house with an index in the list."""
+    return (meaning >> at) & 1 == 1
+
+
 def houses_of(meaning, houses):
     """The list of those of these houses that a meaning has, in their order."""
-    return [house for at, house in enumerate(houses) if (meaning >> at) & 1 == 1]
+    return [house for at, house in enumerate(houses) if holds_at(meaning, at)]
+
+
+def place_of(house, houses):
+    """The index among all small houses of the one in which the same formulas hold as in a house."""
+    one, other, both = [min(many, MOST_TOLD_APART) for many in house[1:]]
+    return houses.index((0, one, other, both))
 
 
 def first_of_all(formula):

@@ -9,6 +9,8 @@ MOST_DEPTH = 10
 MOST_TOLD = 3
 SORTS = 4
 
+MARK_CLAUSES = ("all", "some", "no", "allnot")
+COUNT_CLAUSES = ("has",)
 MARKS = (("a", "b"), ("b", "a"))
 COUNTED = ("a", "b", "both")
 OTHER_SIGNS = ("not", "(", ")")
@@ -48,7 +50,7 @@ def is_number(value, least, most):
 def _is_sign(value):
     if isinstance(value, str):
         return value in JOINTS or value in OTHER_SIGNS
-    return _is_triple(value, ("all", "some", "no", "allnot"), ("has",))
+    return _is_triple(value, MARK_CLAUSES, COUNT_CLAUSES)
 
 
 def _is_triple(value, mark_words, count_words):

@@ -13,8 +13,7 @@ def readings(notice):
     """The ascending list of all readings of a notice."""
     check_notice(notice)
     # Counted first, since to build all readings may take very long.
-    if _count_row(notice) > MOST_READINGS:
-        raise TooMany(MOST_READINGS)
+    check_readings(notice)
     return sorted(_row_readings(notice))
 
 
@@ -23,6 +22,12 @@ def is_reading(notice, formula):
     check_notice(notice)
     check_formula(formula)
     return _reads_as(notice, formula)
+
+
+def check_readings(notice):
+    """Raise TooMany for a notice that has more than 300 readings."""
+    if _count_row(notice) > MOST_READINGS:
+        raise TooMany(MOST_READINGS)
 
 
 # No formula comes of a row in two ways: whether it begins with "not" tells

@@ -7,22 +7,13 @@ from noticeways import cases
 from noticeways.cases import left, told
 from noticeways.errors import InvalidCases, InvalidHouse, InvalidNotice, TooMany
 from noticeways.readings import readings
+from tests.deciding import plainly_left, plainly_told
 from tests.plainly import HOUSES, plainly_holds
 from tests.reckoning import A, B, C, D, FEW_MORE, JUST_300, TWO_MORE, VERY_MANY, grown_notices
 from tests.wrong import WRONG_CASES, WRONG_HOUSES, WRONG_NOTICES, ErrorsCase
 
 EMPTY = (0, 0, 0, 0)
 VAST = (10 ** 30, 10 ** 30, 10 ** 30, 10 ** 30)
-
-
-def plainly_left(formulas, decided):
-    return [number for number, formula in enumerate(formulas)
-            if [plainly_holds(formula, house) for house, _ in decided] == [truth for _, truth in decided]]
-
-
-def plainly_told(formulas, decided, house):
-    said = {plainly_holds(formulas[number], house) for number in plainly_left(formulas, decided)}
-    return said.pop() if len(said) == 1 else None
 
 
 class DocumentTest(unittest.TestCase):

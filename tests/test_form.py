@@ -12,8 +12,9 @@ class FormTest(unittest.TestCase):
 
     def test_files_are_there(self):
         names = [one.name for one in FILES]
-        for name in ("__init__.py", "errors.py", "notices.py", "readings.py", "truths.py", "comparing.py", "cases.py"):
-            self.assertIn(name, names)
+        for name in ("__init__", "errors", "notices", "readings", "truths", "comparing", "cases", "asking", "texts",
+                     "brackets"):
+            self.assertIn(name + ".py", names)
 
     def test_sizes(self):
         for file in FILES:

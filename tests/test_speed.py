@@ -3,18 +3,39 @@
 import time
 import unittest
 
+from noticeways.asking import best_house, fewest_questions, plan_for, settles
+from noticeways.brackets import least_brackets
 from noticeways.cases import left, told
 from noticeways.comparing import groups, harmless, parting, relation
 from noticeways.errors import TooMany
 from noticeways.readings import readings
 from noticeways.truths import count_houses, first_house, holds, how
 from tests.plainly import full
-from tests.reckoning import A, C, FEW_MORE, JUST_300, VERY_MANY
+from tests.reckoning import A, C, FEW_MORE, HAS, JUST_300, VERY_MANY
 
 VAST = 10 ** 30
 SIX = tuple(((VAST, many, VAST, many), many % 2 == 0) for many in range(6))
 # 260 readings, up to thirteen deep.
 DEEP_260 = ("not",) * 9 + C + ("unless",) + A + ("and",) + A
+
+
+# Many readings that are all unlike, and nine signs with as many readings as three clauses can have below the limit.
+UNLIKE = (("has", 1, "a"), "unless", ("has", 2, "b"), "unless", ("has", 3, "both"))
+EIGHT = ("not",) + C + ("or", ("allnot", "b", "a"))
+NINE_SIGNS = (
+    ("not", "not", "not", HAS, "and", "not") + C + ("unless", ("has", 1, "a")),
+    ("not", "not", "not", HAS, "unless", "not", ("has", 1, "a"), "onlyif", ("has", 1, "b")),
+    ("not", "not") + C + ("unless", "not", "not", HAS, "and", ("has", 1, "a")),
+    ("not", "not", "not", "not", ("some", "a", "b"), "or") + A + ("and", ("all", "b", "a")),
+)
+
+
+def seven_questions(house):
+    """A plan with seven questions one behind another on all of its branches, each for another house."""
+    plans = [at % 2 for at in range(128)]
+    while len(plans) > 1:
+        plans = [("ask", house(at + len(plans)), plans[at], plans[at + 1]) for at in range(0, len(plans), 2)]
+    return plans[0]
 
 
 class SpeedTest(unittest.TestCase):
@@ -38,8 +59,28 @@ class SpeedTest(unittest.TestCase):
 
     def test_too_many_readings(self):
         for notice in (FEW_MORE, VERY_MANY):
-            for call in ((groups,), (harmless,), (left, SIX), (told, SIX, (0, 0, 0, 0))):
+            for call in ((groups,), (harmless,), (left, SIX), (told, SIX, (0, 0, 0, 0)), (best_house, SIX),
+                         (fewest_questions, SIX), (plan_for, SIX), (settles, SIX, 0), (least_brackets,)):
                 self.soon(call[0], notice, *call[1:])
+
+    def test_asking(self):
+        for notice in (JUST_300, DEEP_260, UNLIKE, EIGHT, ("not",) * 15 + A):
+            for decided in ((), SIX[:1], SIX, (((0, 1, 0, 1), True), ((0, 0, 1, 2), False))):
+                for function in (best_house, fewest_questions, plan_for):
+                    self.soon(function, notice, decided)
+        self.assertEqual(fewest_questions(EIGHT, ()), 3)
+
+    def test_seven_questions(self):
+        for house in (lambda at: (0, at % 5, at // 5 % 5, at // 25), lambda at: (VAST, at, VAST, at)):
+            plan = seven_questions(house)
+            for notice in (JUST_300, DEEP_260, UNLIKE):
+                for decided in ((), SIX[:1], SIX):
+                    self.soon(settles, notice, decided, plan)
+
+    def test_brackets(self):
+        for notice in NINE_SIGNS:
+            self.assertEqual(len(notice), 9)
+            self.soon(least_brackets, notice)
 
     def test_large_formulas(self):
         for word in ("and", "or", "if", "other"):

@@ -41,6 +41,27 @@ WRONG_CASES = [
     ((HOUSE, False), (house, False)) for house in WRONG_HOUSES] + [((HOUSE, True), (HOUSE, truth)) for truth in (0, 1)]
 
 
+def asked(many, plan=0):
+    """A plan with so many questions one behind another, and with the same plan at all ends."""
+    for at in range(many):
+        plan = ("ask", (at, 0, 0, 0), plan, plan)
+    return plan
+
+
+# Values that are no plans, however many readings a notice has, up to 300.
+WRONG_PLANS = [
+    None, True, False, -1, 300, 10 ** 39, -(10 ** 39), "", "0", "ask", (), [], (0,), [0], ((0,),), ("ask",),
+    ["ask", HOUSE, 0, 0], ("ask", HOUSE, 0), ("ask", HOUSE, 0, 0, 0), (HOUSE, 0, 0), (HOUSE, "ask", 0, 0),
+    ("asks", HOUSE, 0, 0), ("Ask", HOUSE, 0, 0), ("", HOUSE, 0, 0), (None, HOUSE, 0, 0), (0, HOUSE, 0, 0),
+    ("ask", HOUSE, True, 0), ("ask", HOUSE, 0, False), ("ask", HOUSE, -1, 0), ("ask", HOUSE, 0, 300),
+    ("ask", HOUSE, None, 0), ("ask", HOUSE, 0, ()), ("ask", HOUSE, ["ask", HOUSE, 0, 0], 0),
+    ("ask", HOUSE, 0, ("ask", HOUSE, 0)), ("ask", HOUSE, 0, ("ask", HOUSE, ("ask", HOUSE, 0, "0"), 0)),
+    asked(8), asked(12), asked(6, ("ask", HOUSE, asked(1), 0)), asked(7, None), asked(7, True), asked(7, 300),
+] + [("ask", house, 0, 0) for house in WRONG_HOUSES] + [("ask", HOUSE, 0, ("ask", house, 0, 0)) for house in WRONG_HOUSES]
+
+WRONG_TEXTS = [None, True, False, 0, 1, 10 ** 39, (), [], ("not",), ["all-a-b"], A, C, (("all-a-b",),)]
+
+
 class ErrorsCase(unittest.TestCase):
 
     def raises(self, error, function, *arguments):
