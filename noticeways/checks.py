@@ -1,7 +1,7 @@
 """The errors that wrong arguments raise, one function for each kind of argument."""
 
 from noticeways.errors import (
-    InvalidCases, InvalidFormula, InvalidHouse, InvalidNotice, InvalidNumber, InvalidPlan, InvalidTruth,
+    InvalidCases, InvalidFormula, InvalidHouse, InvalidIndex, InvalidNotice, InvalidNumber, InvalidPlan, InvalidTruth,
 )
 from noticeways.notices import MOST_PEOPLE, is_formula, is_house, is_notice, is_number
 
@@ -37,6 +37,12 @@ def check_people(value):
     """Raise InvalidNumber for what is no number of people."""
     if not is_number(value, 0, MOST_PEOPLE):
         raise InvalidNumber("this is no number of people")
+
+
+def check_index(value, many):
+    """Raise InvalidIndex for what is no index of so many items."""
+    if not is_number(value, 0, many - 1):
+        raise InvalidIndex("this is no index")
 
 
 def check_cases(value):

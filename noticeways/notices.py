@@ -21,7 +21,7 @@ def is_notice(value):
     """Whether a value is a notice."""
     if not isinstance(value, tuple) or not 1 <= len(value) <= MOST_SIGNS:
         return False
-    if not all([_is_sign(sign) for sign in value]):
+    if not all([is_sign(sign) for sign in value]):
         return False
     clauses = [sign for sign in value if isinstance(sign, tuple)]
     return len(clauses) <= MOST_CLAUSES and is_row(value)
@@ -39,18 +39,19 @@ def is_formula(value):
     return _is_nested(value, MOST_DEPTH)
 
 
+def is_sign(value):
+    """Whether a value is a sign."""
+    if isinstance(value, str):
+        return value in JOINTS or value in OTHER_SIGNS
+    return _is_triple(value, MARK_CLAUSES, COUNT_CLAUSES)
+
+
 def is_number(value, least, most):
     """Whether a value is an integer from the least to the most one."""
     # A truth is an int for Python, but no integer for a notice.
     if not isinstance(value, int) or isinstance(value, bool):
         return False
     return least <= value <= most
-
-
-def _is_sign(value):
-    if isinstance(value, str):
-        return value in JOINTS or value in OTHER_SIGNS
-    return _is_triple(value, MARK_CLAUSES, COUNT_CLAUSES)
 
 
 def _is_triple(value, mark_words, count_words):

@@ -13,7 +13,7 @@ class FormTest(unittest.TestCase):
     def test_files_are_there(self):
         names = [one.name for one in FILES]
         for name in ("__init__", "errors", "notices", "readings", "truths", "comparing", "cases", "asking", "texts",
-                     "brackets"):
+                     "brackets", "books", "plain", "values", "desks"):
             self.assertIn(name + ".py", names)
 
     def test_sizes(self):

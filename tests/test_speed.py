@@ -4,14 +4,19 @@ import time
 import unittest
 
 from noticeways.asking import best_house, fewest_questions, plan_for, settles
+from noticeways.books import alike, clash, count_meanings, only_in, silent
 from noticeways.brackets import least_brackets
 from noticeways.cases import left, told
 from noticeways.comparing import groups, harmless, parting, relation
+from noticeways.desks import Desk
 from noticeways.errors import TooMany
+from noticeways.plain import reach, table
 from noticeways.readings import readings
 from noticeways.truths import count_houses, first_house, holds, how
+from noticeways.values import Notice
 from tests.plainly import full
 from tests.reckoning import A, C, FEW_MORE, HAS, JUST_300, VERY_MANY
+from tests.test_books import JUST_2000, LARGE, LARGER, NEVER, ONE_MORE
 
 VAST = 10 ** 30
 SIX = tuple(((VAST, many, VAST, many), many % 2 == 0) for many in range(6))
@@ -46,7 +51,7 @@ class SpeedTest(unittest.TestCase):
             function(*arguments)
         except TooMany:
             pass
-        self.assertLess(time.perf_counter() - start, 1, (function.__name__, arguments))
+        self.assertLess(time.perf_counter() - start, 1, (function, arguments))
 
     def test_many_readings(self):
         self.assertEqual(len(readings(DEEP_260)), 260)
@@ -82,6 +87,52 @@ class SpeedTest(unittest.TestCase):
             self.assertEqual(len(notice), 9)
             self.soon(least_brackets, notice)
 
+    def test_books(self):
+        for book in (JUST_2000, JUST_2000[::-1], ONE_MORE, (JUST_300, DEEP_260, UNLIKE), (JUST_300,) * 3,
+                     (LARGE, LARGER, NEVER), (NEVER, LARGE, LARGER), (LARGER, NEVER, LARGE), (LARGE, LARGE, LARGE)):
+            for function in (count_meanings, clash, silent):
+                self.soon(function, book)
+            for function in (alike, only_in):
+                self.soon(function, book, book[::-1])
+
+    def test_desks(self):
+        for notice in (JUST_300, DEEP_260, UNLIKE, EIGHT):
+            self.soon(Desk, notice)
+            desk = Desk(notice)
+            for many in range(6):
+                house = (VAST, many, VAST, many)
+                self.soon(desk.decide, house, desk.says(house) is not False)
+                self.soon(bool, desk)
+                self.soon(desk.best)
+                self.soon(desk.says, (1, VAST, 2, 3))
+                self.soon(getattr, desk, "left")
+            self.soon(desk.decide, *desk[0])
+            self.soon(desk.drop, 3)
+            self.soon(desk.undo)
+
+    def test_long_past(self):
+        desk = Desk(A)
+
+        def action(one):
+            for _ in range(300):
+                one.decide((0, 0, 0, 1), True)
+                one.drop(0)
+
+        self.soon(desk.attempt, action)
+        start = time.perf_counter()
+        for _ in range(600):
+            desk.undo()
+        self.assertLess(time.perf_counter() - start, 1)
+
+    def test_notices_as_values(self):
+        for notice in (JUST_300, DEEP_260, UNLIKE, EIGHT):
+            n = Notice(*notice)
+            self.soon(bool, n)
+            self.soon(str, n)
+            self.soon(n, (VAST, 1, VAST, 2))
+            self.soon(n.like, n)
+            self.soon(n.like, ~Notice(*A))
+
     def test_large_formulas(self):
         for word in ("and", "or", "if", "other"):
             formula = full(word, 10)
@@ -91,6 +142,8 @@ class SpeedTest(unittest.TestCase):
                 self.soon(first_house, formula, truth)
             for people in (0, VAST):
                 self.soon(count_houses, formula, people)
+            self.soon(reach, formula)
+            self.soon(table, formula)
             self.soon(relation, formula, full("or", 10))
             self.soon(parting, formula, full("or", 10))
 

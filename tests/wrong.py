@@ -57,8 +57,14 @@ WRONG_PLANS = [
     ("ask", HOUSE, None, 0), ("ask", HOUSE, 0, ()), ("ask", HOUSE, ["ask", HOUSE, 0, 0], 0),
     ("ask", HOUSE, 0, ("ask", HOUSE, 0)), ("ask", HOUSE, 0, ("ask", HOUSE, ("ask", HOUSE, 0, "0"), 0)),
     asked(8), asked(12), asked(6, ("ask", HOUSE, asked(1), 0)), asked(7, None), asked(7, True), asked(7, 300),
-] + [("ask", house, 0, 0) for house in WRONG_HOUSES] + [("ask", HOUSE, 0, ("ask", house, 0, 0)) for house in WRONG_HOUSES]
+] + [("ask", house, 0, 0) for house in WRONG_HOUSES] + [
+    ("ask", HOUSE, 0, ("ask", house, 0, 0)) for house in WRONG_HOUSES]
 
+WRONG_BOOKS = [
+    None, True, 0, 10 ** 39, "", "all-a-b", (), [], [A], A, C, (A, A, A, A), (A,) * 100, (list(A),), (A, list(A)),
+    (A, A, None), (A, ()), ((),), ((A,),), (A, (A,)), (A[0],), (A, A[0]), ("not",), ("not",) + A, (A, True),
+] + [(notice,) for notice in WRONG_NOTICES] + [(A, C, notice) for notice in WRONG_NOTICES[::2]]
+WRONG_INDICES = [None, True, False, -1, -2, 10 ** 39, -(10 ** 39), "", "0", (), [], (0,), [0]]
 WRONG_TEXTS = [None, True, False, 0, 1, 10 ** 39, (), [], ("not",), ["all-a-b"], A, C, (("all-a-b",),)]
 
 
